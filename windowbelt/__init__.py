@@ -1,0 +1,1 @@
+"""Windowbelt: a small machine, run plainly and in a window."""
