@@ -14,6 +14,22 @@ INTERFACE = {
     "windowbelt.plain": {
         "ran": ["program", "state", "most"], "ended": ["program", "state"],
     },
+    "windowbelt.designs": {
+        "event_number": ["event"], "is_entry": ["value"], "may_hold": ["entry"],
+        "is_design": ["value"], "home_of": ["design", "kind"], "with_table": ["design", "table"],
+    },
+    "windowbelt.windows": {
+        "events_behind": ["design", "program", "state", "guesser", "row"],
+        "stand": ["design", "program", "state", "guesser", "row"],
+        "has_ended": ["design", "program", "state", "guesser", "row"],
+        "run": ["design", "program", "state", "guesser", "numbers"],
+    },
+    "windowbelt.rights": {
+        "needs": ["design"], "missing": ["design"], "least_table": ["design"],
+        "is_forced": ["design", "entry"], "is_right": ["design"],
+        "shows": ["design", "program", "state", "guesser", "row"],
+        "shown": ["design", "need"], "first_shown": ["design"],
+    },
 }
 
 

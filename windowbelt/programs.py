@@ -5,6 +5,8 @@ from windowbelt.values import is_from_to
 
 MOST_INSTRUCTIONS = 40
 
+KINDS = ("set", "sum", "get", "put", "if", "show")
+
 # The greatest number at each place behind the word of a kind; a goal's is MOST_INSTRUCTIONS.
 GREATEST = {
     "set": (7, 255),
