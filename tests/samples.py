@@ -17,6 +17,17 @@ NEXT = ("next",)
 GOAL = ("goal",)
 LETTERS = {"r": "read", "m": "make", "w": "write", "o": "out"}
 
+# The state of point 18, and the apart instructions of point 23, by kind and place.
+TOLD = ((1, 2, 4, 3, 2, 0, 0, 0), (3, 6, 5, 7, 8, 11, 12, 0), ())
+APART = {
+    "set": tuple(("set", place, 5) for place in range(4)),
+    "sum": tuple(("sum", place, 4, 4, 1) for place in range(4)),
+    "get": tuple(("get", place, 4, place) for place in range(4)),
+    "put": tuple(("put", 4, 4, place) for place in range(4)),
+    "if": (("if", 4, 0),) * 4,
+    "show": (("show", 4),) * 4,
+}
+
 # Values of every kind that an argument may have, none of them an integer.
 NO_INTEGERS = (
     True, False, None, "", "0", "set", (), (0,), ((),), [], [0], {}, {0: 0},
@@ -104,3 +115,27 @@ def row_of(text):
 def whole(place):
     """The four events behind "lay" of a place, as row_of takes them."""
     return f"r{place} m{place} w{place} o{place}"
+
+
+def random_program(source, many):
+    """A program of so many instructions that have much to do with each other."""
+    return tuple(random_instruction(source, many) for _ in range(many))
+
+
+def random_instruction(source, many):
+    """An instruction that can stand in a program of so many."""
+    kind = source.choice(KINDS)
+    a, b, c, n = [source.randrange(3) for _ in range(4)]
+    return {
+        "set": (kind, a, n), "sum": (kind, a, b, c, n), "get": (kind, a, b, n),
+        "put": (kind, a, b, n), "if": (kind, a, source.randrange(many + 1)), "show": (kind, a),
+    }[kind]
+
+
+def random_case(source):
+    """A program, a state and a guesser, and numbers that tell a hand."""
+    program = random_program(source, source.randrange(7))
+    state = state_of([source.randrange(3) for _ in range(8)], range(8))
+    guesser = source.choice((NEXT, GOAL, ("row", (3, 1, 7, 2, 40))))
+    numbers = tuple(source.randrange(60) for _ in range(source.randrange(1, 51)))
+    return program, state, guesser, numbers

@@ -1,29 +1,41 @@
-"""Point 1: wrong arguments of the window's functions, and which error stands first."""
+"""Point 1: wrong arguments of all but the plain machine, and which error stands first."""
 
 import copy
 import unittest
 
 from tests.samples import (
     DESIGN, ENTRY, NEXT, NO_DESIGNS, NO_ENTRIES, NO_GUESSERS, NO_PROGRAMS, NO_STATES, NO_TUPLES,
-    STATE, WORDS, row_of, whole,
+    STATE, WORDS, design_of, row_of, whole,
 )
 from windowbelt.designs import home_of, with_table
+from windowbelt.desks import Desk
 from windowbelt.errors import (
-    BadDesign, BadEntry, BadGuesser, BadKind, BadNumber, BadProgram, BadRow, BadState, BadTable,
-    NotMade, TooLong,
+    BadBlock, BadDesign, BadEntry, BadGuesser, BadKind, BadNumber, BadProgram, BadRow, BadState,
+    BadTable, NotMade, TooLong,
+)
+from windowbelt.frees import (
+    barred_row, count_rows, effective_width, freest, lets_by_all, rounds_of,
 )
 from windowbelt.rights import (
     first_shown, is_forced, is_right, least_table, missing, needs, shown, shows,
 )
+from windowbelt.stops import stopped, stops_cleanly, unclean
+from windowbelt.texts import write_design
 from windowbelt.windows import events_behind, has_ended, run, stand
 
 PROGRAM = (("set", 1, 5), ("sum", 2, 1, 1, 0))
 LOOP = (("if", 0, 0),)
 NEED = ("feeds", "set", "sum", "make", "read")
-OF_ROWS = (events_behind, stand, has_ended, shows)
+OF_ROWS = (events_behind, stand, has_ended, shows, stopped)
 OF_RUNS = OF_ROWS + (run,)
-OF_DESIGNS = (needs, missing, least_table, is_right, first_shown)
+OF_GUESSERS = OF_RUNS + (rounds_of, Desk)
+OF_DESIGNS = (
+    needs, missing, least_table, is_right, first_shown, stops_cleanly, unclean, effective_width,
+    freest, write_design,
+)
 OF_ENTRIES = (is_forced, shown)
+OF_TWO = (lets_by_all, barred_row)
+RIGHT = freest(design_of())
 
 
 class Asking(unittest.TestCase):
@@ -38,18 +50,25 @@ class Asking(unittest.TestCase):
 class WrongOnes(Asking):
     """One argument is wrong, the others are sound."""
 
-    def sound(self, call):
-        return (DESIGN, PROGRAM, STATE, NEXT, (0,) if call == run else ())
+    def given(self, call, place, value):
+        """Sound arguments of a call, but for this value at a place."""
+        last = {run: ((0,),), rounds_of: (), Desk: ()}.get(call, ((),))
+        sound = (DESIGN, PROGRAM, STATE, NEXT) + last
+        return sound[:place] + (value,) + sound[place + 1:]
 
     def test_designs(self):
         for value in NO_DESIGNS:
             with self.subTest(value=value):
-                for call in OF_RUNS:
-                    self.assert_raises(BadDesign, call, value, *self.sound(call)[1:])
+                for call in OF_GUESSERS:
+                    self.assert_raises(BadDesign, call, *self.given(call, 0, value))
                 for call in OF_DESIGNS:
                     self.assert_raises(BadDesign, call, value)
                 for call in OF_ENTRIES:
                     self.assert_raises(BadDesign, call, value, NEED)
+                for call in OF_TWO:
+                    self.assert_raises(BadDesign, call, value, RIGHT)
+                    self.assert_raises(BadDesign, call, RIGHT, value)
+                self.assert_raises(BadDesign, count_rows, value, (), STATE)
 
     def test_programs(self):
         wrong = NO_PROGRAMS + tuple((value, None) for value in NO_TUPLES) + (
@@ -58,9 +77,8 @@ class WrongOnes(Asking):
         )
         for value, index in wrong:
             with self.subTest(value=value):
-                for call in OF_RUNS:
-                    design, program, *rest = self.sound(call)
-                    self.assert_raises(BadProgram, call, design, value, *rest, index=index)
+                for call in OF_GUESSERS:
+                    self.assert_raises(BadProgram, call, *self.given(call, 1, value), index=index)
 
     def test_states(self):
         wrong = NO_STATES + NO_TUPLES + (
@@ -68,16 +86,15 @@ class WrongOnes(Asking):
         )
         for value in wrong:
             with self.subTest(value=value):
-                for call in OF_RUNS:
-                    design, program, state, *rest = self.sound(call)
-                    self.assert_raises(BadState, call, design, program, value, *rest)
+                for call in OF_GUESSERS:
+                    self.assert_raises(BadState, call, *self.given(call, 2, value))
+                self.assert_raises(BadState, count_rows, DESIGN, (), value)
 
     def test_guessers(self):
         for value in NO_GUESSERS:
             with self.subTest(value=value):
-                for call in OF_RUNS:
-                    *ahead, guesser, last = self.sound(call)
-                    self.assert_raises(BadGuesser, call, *ahead, value, last)
+                for call in OF_GUESSERS:
+                    self.assert_raises(BadGuesser, call, *self.given(call, 3, value))
 
     def test_entries(self):
         for value in NO_ENTRIES:
@@ -106,6 +123,30 @@ class FirstOnes(Asking):
         self.assert_raises(BadNumber, run, DESIGN, LOOP, STATE, NEXT, None)
         self.assert_raises(BadGuesser, run, DESIGN, LOOP, STATE, (), None)
 
+    def test_four_arguments(self):
+        for call in (rounds_of, Desk):
+            self.assert_raises(BadDesign, call, None, None, None, None)
+            self.assert_raises(BadProgram, call, DESIGN, LOOP + (None,), None, None, index=1)
+            self.assert_raises(BadState, call, DESIGN, LOOP, None, None)
+            self.assert_raises(BadGuesser, call, DESIGN, LOOP, STATE, None)
+        self.assert_raises(TooLong, rounds_of, DESIGN, LOOP, STATE, NEXT, most=200)
+
+    def test_blocks(self):
+        self.assert_raises(BadDesign, count_rows, None, None, None)
+        self.assert_raises(BadBlock, count_rows, DESIGN, None, None)
+        self.assert_raises(BadBlock, count_rows, DESIGN, LOOP, None)
+        self.assert_raises(BadState, count_rows, DESIGN, PROGRAM, None)
+
+    def test_two_designs(self):
+        wrong = design_of()
+        for call in OF_TWO:
+            self.assert_raises(BadDesign, call, None, None)
+            self.assert_raises(BadDesign, call, wrong, None)
+            self.assert_raises(BadDesign, call, None, wrong)
+            self.assert_raises(NotMade, call, wrong, RIGHT)
+            self.assert_raises(NotMade, call, RIGHT, wrong)
+            self.assert_raises(NotMade, call, RIGHT, freest(DESIGN))
+
     def test_too_long_stands_behind_all(self):
         self.assert_raises(TooLong, run, DESIGN, LOOP, STATE, NEXT, (0,), most=600)
         self.assert_raises(BadNumber, run, DESIGN, LOOP, STATE, NEXT, (-1,))
@@ -133,7 +174,7 @@ class FirstOnes(Asking):
         self.assert_raises(BadTable, with_table, DESIGN, None)
 
 
-class NothingChanges(unittest.TestCase):
+class NothingChanges(Asking):
     def test_a_call_behind_an_error_answers_as_ahead_of_it(self):
         row = row_of(f"lay lay {whole(0)}")
         ahead = stand(DESIGN, PROGRAM, STATE, NEXT, row)
@@ -155,7 +196,21 @@ class NothingChanges(unittest.TestCase):
             for call in OF_ENTRIES:
                 with self.assertRaises(BadEntry):
                     call(DESIGN, value)
+            for call in OF_TWO:
+                with self.assertRaises(BadDesign):
+                    call(RIGHT, value)
             self.assertEqual(value, kept)
+
+    def test_objects_of_the_package(self):
+        desk = Desk(DESIGN, PROGRAM, STATE, NEXT)
+        for value in (desk, (desk,), (desk,) * 3, (desk,) * 5, BadNumber("x")):
+            for call in OF_DESIGNS:
+                self.assert_raises(BadDesign, call, value)
+            for call in OF_ENTRIES:
+                self.assert_raises(BadEntry, call, DESIGN, value)
+            self.assert_raises(BadBlock, count_rows, DESIGN, value, STATE)
+            self.assert_raises(BadGuesser, rounds_of, DESIGN, PROGRAM, STATE, value)
+        self.assertEqual((desk.row, desk.state), ((), STATE))
 
 
 if __name__ == "__main__":

@@ -30,6 +30,20 @@ INTERFACE = {
         "shows": ["design", "program", "state", "guesser", "row"],
         "shown": ["design", "need"], "first_shown": ["design"],
     },
+    "windowbelt.stops": {
+        "stopped": ["design", "program", "state", "guesser", "row"],
+        "stops_cleanly": ["design"], "unclean": ["design"],
+    },
+    "windowbelt.frees": {
+        "effective_width": ["design"], "count_rows": ["design", "block", "state"],
+        "rounds_of": ["design", "program", "state", "guesser"],
+        "lets_by_all": ["one", "other"], "barred_row": ["one", "other"], "freest": ["design"],
+    },
+    "windowbelt.texts": {
+        "write_program": ["program"], "write_design": ["design"],
+        "read_program": ["text"], "read_design": ["text"],
+    },
+    "windowbelt.desks": {"Desk": ["design", "program", "state", "guesser"]},
 }
 
 
@@ -52,6 +66,13 @@ class Interface(unittest.TestCase):
                     function = getattr(importlib.import_module(module), name)
                     self.assertEqual(function.__module__, module)
                     self.assertEqual(list(inspect.signature(function).parameters), arguments)
+
+    def test_what_a_desk_defines_itself(self):
+        desk = importlib.import_module("windowbelt.desks").Desk
+        for name, arguments in (("run", ["self", "line"]), ("undo", ["self"])):
+            self.assertEqual(list(inspect.signature(vars(desk)[name]).parameters), arguments)
+        for name in ("row", "state"):
+            self.assertIsInstance(vars(desk)[name], property)
 
 
 class Files(unittest.TestCase):

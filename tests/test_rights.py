@@ -4,8 +4,8 @@ import random
 import unittest
 
 from tests.samples import (
-    ALL_HOMES, DESIGN, EVENTS, GOAL, KINDS, NEXT, RELATIONS, STATE, WRITING, design_of, row_of,
-    state_of, whole,
+    ALL_HOMES, DESIGN, EVENTS, GOAL, KINDS, NEXT, RELATIONS, STATE, WRITING, design_of,
+    random_case, row_of, state_of, whole,
 )
 from windowbelt.designs import may_hold, with_table
 from windowbelt.errors import NotMade, TooLong
@@ -440,23 +440,11 @@ class RightDesigns(unittest.TestCase):
             source.choice(EVENTS[1:]), source.choice(EVENTS),
         )
 
-    def instruction(self, source, many):
-        kind = source.choice(KINDS)
-        a, b, c, n = [source.randrange(3) for _ in range(4)]
-        return {
-            "set": (kind, a, n), "sum": (kind, a, b, c, n), "get": (kind, a, b, n),
-            "put": (kind, a, b, n), "if": (kind, a, source.randrange(many + 1)), "show": (kind, a),
-        }[kind]
-
     def try_runs(self, design, source):
         self.assertIs(is_right(design), True)
         tried = 0
         for _ in range(10):
-            size = source.randrange(7)
-            program = tuple(self.instruction(source, size) for _ in range(size))
-            state = state_of([source.randrange(3) for _ in range(8)], range(8))
-            guesser = source.choice((NEXT, GOAL, ("row", (3, 1, 7, 2, 40))))
-            numbers = tuple(source.randrange(60) for _ in range(source.randrange(1, 51)))
+            program, state, guesser, numbers = random_case(source)
             try:
                 plain = ended(program, state)
                 last, done, row = run(design, program, state, guesser, numbers)

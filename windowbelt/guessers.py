@@ -3,6 +3,8 @@
 from windowbelt.errors import BadGuesser
 from windowbelt.values import is_from_to
 
+NEXT = ("next",)
+GOAL = ("goal",)
 MOST_GUESSES = 30
 GREATEST_GUESS = 40
 
@@ -11,7 +13,7 @@ def is_guesser(value):
     """Whether a value is a guesser."""
     if not isinstance(value, tuple):
         return False
-    if value == ("next",) or value == ("goal",):
+    if value == NEXT or value == GOAL:
         return True
     return len(value) == 2 and value[0] == "row" and are_guesses(value[1])
 
@@ -34,9 +36,9 @@ def guessed(guesser, counted, goal, following, many):
 
     counted ifs were laid ahead of it, following is the one behind it, and the program has many.
     """
-    if guesser[0] == "next":
+    if guesser == NEXT:
         return following
-    if guesser[0] == "goal":
+    if guesser == GOAL:
         return goal
     numbers = guesser[1]
     return numbers[counted % len(numbers)] % (many + 1)

@@ -1,4 +1,4 @@
-"""Short programs, each of two instructions between which the relation of a need holds."""
+"""Short programs: two instructions between which a relation holds, or some that keep apart."""
 
 # The state from which these programs begin.
 STATE_TOLD = ((1, 2, 4, 3, 2, 0, 0, 0), (3, 6, 5, 7, 8, 11, 12, 0), ())
@@ -14,6 +14,9 @@ USERS = {
     "if": ("if", 0, 3),
     "show": ("show", 0),
 }
+
+# The user "if" in a program of two instructions. Where it stands its register never holds 0.
+SHORT_IF = ("if", 0, 0)
 
 # What goes to the cell that register 4 tells.
 AT_CELL = {"put": ("put", 2, 4, 0), "get": ("get", 1, 4, 0)}
@@ -60,3 +63,40 @@ def program_and_state(need):
     # The if that uses register 0 has its goal behind this third instruction.
     third = (("set", 6, 9),) if USERS["if"] in pair else ()
     return pair + third, (registers, cells, words)
+
+
+def pair_between(entry):
+    """The two instructions for an entry of any table that can hold."""
+    relation, kind, other = entry[:3]
+    if relation == "feeds":
+        return (MAKERS[kind], short_user(other))
+    if relation == "used":
+        return (short_user(kind), MAKERS[other])
+    if relation in ("same", "cells"):
+        return pair_of(entry)
+    return apart((kind, other))
+
+
+def short_user(kind):
+    """The user of register 0 in a program of two instructions."""
+    return SHORT_IF if kind == "if" else USERS[kind]
+
+
+def apart(kinds):
+    """The program of the apart instructions of these kinds, at places 0, 1, .."""
+    return tuple([apart_one(kind, place) for place, kind in enumerate(kinds)])
+
+
+def apart_one(kind, place):
+    """The instruction of a kind that, at its place, has nothing to do with those beside it."""
+    if kind == "set":
+        return ("set", place, 5)
+    if kind == "sum":
+        return ("sum", place, 4, 4, 1)
+    if kind == "get":
+        return ("get", place, 4, place)
+    if kind == "put":
+        return ("put", 4, 4, place)
+    if kind == "if":
+        return ("if", 4, 0)
+    return ("show", 4)

@@ -50,7 +50,7 @@ def step(store, instruction, number):
     if kind == "put":
         store.cells[cell_told(instruction, words)] = words[1]
     elif kind == "show":
-        store.shown.append(words[0])
+        store.show(words[0])
     else:
         store.registers[register_written(instruction)] = result(store, instruction, words)
     return number + 1

@@ -30,6 +30,12 @@ USED_PLACES = {
 }
 
 
+def kind_pairs():
+    """All pairs of kinds, ascending."""
+    kinds = sorted(KINDS)
+    return [(kind, other) for kind in kinds for other in kinds]
+
+
 def is_instruction(value):
     """Whether a value is an instruction, with a goal, if it has one, from 0 to 40."""
     return is_instruction_among(value, MOST_INSTRUCTIONS)

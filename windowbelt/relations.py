@@ -34,17 +34,14 @@ def holds_for_all(relation, kind, other):
     return relation == "any"
 
 
-def holds(relation, earlier, later, ahead):
-    """Whether a relation holds just then between two instructions in a window.
-
-    ahead is the list of all that stand ahead of the later one and were not thrown away.
-    """
+def holds(relation, earlier, later):
+    """Whether a relation holds just then between two instructions of a run."""
     first = earlier.instruction
     second = later.instruction
     if not can_hold(relation, first[0], second[0]):
         return False
     if relation == "feeds":
-        return feeds(earlier, later, ahead)
+        return earlier.place in later.sources()
     if relation == "used":
         return register_written(second) in registers_used(first)
     if relation == "same":
@@ -52,20 +49,6 @@ def holds(relation, earlier, later, ahead):
     if relation == "cells":
         return may_meet(earlier.cell, later.cell)
     return True
-
-
-def feeds(earlier, later, ahead):
-    """Whether the earlier one is the last writer of one of the registers the later one uses."""
-    writers = [last_writer(ahead, number) for number in registers_used(later.instruction)]
-    return earlier in writers
-
-
-def last_writer(ahead, number):
-    """The last one of a list that writes the register of this number, or None."""
-    for item in reversed(ahead):
-        if register_written(item.instruction) == number:
-            return item
-    return None
 
 
 def may_meet(cell, other):

@@ -2,14 +2,13 @@
 
 from windowbelt.designs import check_design, check_entry, event_number, home_among, tabled
 from windowbelt.errors import NotMade
+from windowbelt.guessers import NEXT
 from windowbelt.hands import pressing_row
 from windowbelt.pairs import program_and_state
 from windowbelt.plain import MOST_DONE, after
 from windowbelt.programs import KINDS, WRITING_KINDS
 from windowbelt.relations import can_hold, holds_for_all, share_memory
 from windowbelt.windows import belt_behind
-
-NEXT = ("next",)
 
 
 def needs(design):

@@ -41,8 +41,12 @@ class Store:
         registers, cells, shown = state
         self.registers = list(registers)
         self.cells = list(cells)
-        self.shown = list(shown)
+        self.shown = shown
+
+    def show(self, word):
+        """Shows a word."""
+        self.shown = self.shown + (word,)
 
     def told(self):
         """The state that it holds now; it may have any number of words shown."""
-        return (tuple(self.registers), tuple(self.cells), tuple(self.shown))
+        return (tuple(self.registers), tuple(self.cells), self.shown)

@@ -26,7 +26,7 @@ def stand(design, program, state, guesser, row):
     BadDesign, BadProgram, BadState, BadGuesser, BadRow.
     """
     belt = belt_behind(design, program, state, guesser, row)
-    here = tuple([(item.place, item.number, item.event()) for item in belt.here()])
+    here = tuple([(item.place, item.number, item.event()) for item in belt.window])
     return belt.state_now(), belt.following, belt.out(), here
 
 
